@@ -1,0 +1,1 @@
+"""Cloths joined by zippers. All names are imported from the modules of this package."""

@@ -1,6 +1,7 @@
 """The parts of the language rules that can be seen without running the program."""
 
 import ast
+import builtins
 import pathlib
 import re
 import unittest
@@ -23,6 +24,22 @@ def nodes(kind):
 
 def imported(text):
     return [node.module.split(".")[-1] for node in ast.parse(text).body if isinstance(node, ast.ImportFrom)]
+
+
+def bound_names(tree):
+    """The names that are given a meaning somewhere in a tree, imports aside."""
+    for node in ast.walk(tree):
+        if isinstance(node, ast.Name) and isinstance(node.ctx, ast.Store):
+            yield node.id
+        elif isinstance(node, ast.arg):
+            yield node.arg
+        elif isinstance(node, (ast.FunctionDef, ast.ClassDef)):
+            yield node.name
+
+
+def bound_inside(function):
+    """The names of the parameters and local variables of a function."""
+    return set(bound_names(function)) - {function.name}
 
 
 class FormTest(unittest.TestCase):
@@ -71,6 +88,26 @@ class FormTest(unittest.TestCase):
             if isinstance(node.func, ast.Name) and node.func.id in BUILTINS_OVER_LISTS:
                 for argument in node.args:
                     self.assertNotIsInstance(argument, ast.GeneratorExp, (name, node.lineno))
+
+    def test_no_name_of_a_builtin_has_another_meaning(self):
+        for name, text in sources():
+            taken = set(bound_names(ast.parse(text))) & set(dir(builtins))
+            self.assertEqual(sorted(word for word in taken if not word.startswith("__")), [], name)
+
+    def test_no_local_variable_has_the_name_of_an_import(self):
+        for name, text in sources():
+            tree = ast.parse(text)
+            imports = {alias.name for node in tree.body if isinstance(node, ast.ImportFrom) for alias in node.names}
+            for node in ast.walk(tree):
+                if isinstance(node, ast.FunctionDef):
+                    self.assertEqual(bound_inside(node) & imports, set(), (name, node.name))
+
+    def test_every_import_is_used(self):
+        for name, text in sources():
+            tree = ast.parse(text)
+            imports = {alias.name for node in tree.body if isinstance(node, ast.ImportFrom) for alias in node.names}
+            used = {node.id for node in ast.walk(tree) if isinstance(node, ast.Name)}
+            self.assertEqual(imports - used, set(), name)
 
     def test_no_percent_sign_in_strings(self):
         for name, node in nodes(ast.Constant):

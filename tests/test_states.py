@@ -2,6 +2,7 @@ import itertools
 import unittest
 
 from tests.samples import A, B, C, D, ODD_VALUES, P, Q, R, S, T, U
+from tests.worlds import states_of, two_rows
 from zipslack import states
 from zipslack.cloths import Cloth
 from zipslack.errors import InvalidState
@@ -21,10 +22,6 @@ CROSSED = Cloth(
     (("line", 6, ((1, 0), (0, 1))), ("line", 6, ((0, 0), (1, 1)))),
     (("parallel", 0), ("reversed", 0)),
 )
-
-
-def two_rows(sort0, teeth0, sort1, teeth1, direction="parallel", minimum=0):
-    return Cloth(((sort0, teeth0, ((0, 0),)), (sort1, teeth1, ((0, 1),))), ((direction, minimum),))
 
 
 def all_states(cloth):
@@ -218,6 +215,11 @@ class StateCountTest(unittest.TestCase):
         for teeth0, teeth1 in ((1, 1), (2, 3), (4, 3)):
             expected = teeth0 * teeth1 * (min(teeth0, teeth1) + 1)
             self.assertEqual(len(all_states(two_rows("ring", teeth0, "ring", teeth1))), expected)
+
+    def test_sharing_out_the_free_teeth(self):
+        joined = [two_rows("ring", 2, "line", 3), two_rows("line", 2, "ring", 3, "reversed", 1)]
+        for cloth in joined + [SELF_LINE, SELF_RING]:
+            self.assertEqual(sorted(states_of(cloth)), sorted(all_states(cloth)))
 
     def test_both_feet_on_one_row(self):
         for teeth in (1, 2, 3, 4, 5):

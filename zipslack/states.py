@@ -41,6 +41,18 @@ def row_gaps(row, placement):
     return tuple([end - start for start, end in zip(starts, ends)])
 
 
+def normalized(cloth, placement):
+    """The same placement with the positions of each ring shifted, so that its first foot is on the first round."""
+    entries = [list(entry) for entry in placement]
+    for sort, teeth, feet in cloth.rows():
+        if sort == "ring" and feet:
+            first, first_side = feet[0]
+            shift = placement[first][first_side] // teeth * teeth
+            for number, side in feet:
+                entries[number][side] -= shift
+    return tuple([tuple(entry) for entry in entries])
+
+
 def require_state(cloth, state):
     if not is_state(cloth, state):
         raise InvalidState()

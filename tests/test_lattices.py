@@ -1,7 +1,7 @@
 import itertools
 import unittest
 
-from zipslack.lattices import gathered, product, restricted
+from zipslack.lattices import gathered, product, refuting, restricted
 
 UNITS = [(1, 0), (0, 1)]
 
@@ -51,9 +51,29 @@ class LatticesTest(unittest.TestCase):
         self.assertIsNone(restricted((0,), [], (3,), 3))
         self.assertEqual(restricted((1,), [], (3,), 3), ((1,), []))
 
+    def test_refuting(self):
+        refuted = 0
+        for rows in itertools.product(itertools.product((-4, 0, 3, 6), (0, 4), (-3, 0, 2)), repeat=2):
+            equations = [((first, second), value) for first, second, value in rows] + [((6, 9), 3)]
+            found = ((0, 0), UNITS)
+            for coefficients, value in equations:
+                found = None if found is None else restricted(*found, coefficients, value)
+            fractions = refuting(equations, (0, 0), UNITS)
+            self.assertEqual(fractions is None, found is not None, equations)
+            if fractions is not None:
+                refuted += 1
+                numerators, denominator = fractions
+                self.assertGreaterEqual(denominator, 1)
+                for at in (0, 1):
+                    sums = product(numerators, [coefficients[at] for coefficients, value in equations])
+                    self.assertEqual(sums % denominator, 0, equations)
+                self.assertNotEqual(product(numerators, [value for coefficients, value in equations]) % denominator, 0)
+        self.assertGreater(refuted, 100)
+
     def test_the_steps_stay(self):
         steps = [(1, 0), (0, 1)]
         restricted((0, 0), steps, (2, 3), 1)
+        refuting([((2, 4), 1)], (0, 0), steps)
         self.assertEqual(steps, UNITS)
 
 

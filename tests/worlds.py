@@ -1,5 +1,6 @@
 """Small cloths, and all states and all reachable states of a cloth, found without the functions under test."""
 
+import collections
 import itertools
 import random
 
@@ -88,3 +89,72 @@ def components(states, neighbours):
                         found[other] = state
                         waiting.append(other)
     return found
+
+
+def moves_from(cloth, start, neighbours):
+    """For each state that moves lead to, the least number of moves, by a breadth-first search."""
+    counts = {start: 0}
+    waiting = collections.deque([start])
+    while waiting:
+        state = waiting.popleft()
+        for other in neighbours(state):
+            if other not in counts:
+                counts[other] = counts[state] + 1
+                waiting.append(other)
+    return counts
+
+
+def random_state(cloth, source, most_pairs=4):
+    """A state of a cloth from a random source, or None if none was found."""
+    for attempt in range(60):
+        counts = [minimum + source.choice((0, 0, 0, 1, 2, most_pairs)) for direction, minimum in cloth.zips()]
+        placements = [random_placement(row, counts, source) for row in cloth.rows()]
+        if None not in placements:
+            lows = {foot: low for placement in placements for foot, low in placement.items()}
+            return tuple((lows[(number, 0)], lows[(number, 1)], count) for number, count in enumerate(counts))
+    return None
+
+
+def random_placement(row, counts, source):
+    """One way to place the feet of a row, as a dict from feet to low positions, or None if they do not fit."""
+    sort, teeth, feet = row
+    free = teeth - sum(counts[number] for number, side in feet)
+    if free < 0:
+        return None
+    gaps = [0] * (len(feet) + 1)
+    for tooth in range(free):
+        gaps[source.randrange(len(gaps))] += 1
+    at = gaps.pop(0) if sort == "line" else source.randrange(teeth)
+    lows = {}
+    for foot, gap in zip(feet, gaps):
+        lows[foot] = at
+        at += counts[foot[0]] + gap
+    return lows
+
+
+def large_cloth(source, most_minimum=3):
+    """A cloth of any allowed size from a random source."""
+    count = source.randint(0, 8)
+    feet = [(number, side) for number in range(count) for side in (0, 1)]
+    source.shuffle(feet)
+    placed = [[] for row in range(source.randint(1, 6))]
+    for foot in feet:
+        source.choice(placed).append(foot)
+    rings = source.sample(range(len(placed)), min(len(placed), source.randint(0, 2)))
+    most_teeth = source.choice((6, 12, 24))
+    rows = tuple(("ring" if index in rings else "line", source.randint(1, most_teeth), tuple(on_row))
+                 for index, on_row in enumerate(placed))
+    zips = tuple((source.choice(DIRECTIONS), source.choice((0, 0, 1, most_minimum))) for number in range(count))
+    return Cloth(rows, zips)
+
+
+def large_cases(seed, count, states=2):
+    """Large cloths, each with some of its states."""
+    source = random.Random(seed)
+    found = 0
+    while found < count:
+        cloth = large_cloth(source)
+        drawn = [random_state(cloth, source) for state in range(states)]
+        if None not in drawn:
+            found += 1
+            yield (cloth, *drawn)

@@ -1,22 +1,22 @@
 """Clamped feet: feet that never move, because the movers around them wait for each other."""
 
 from zipslack.errors import NotClamped
-from zipslack.kinds import is_integer_tuple
-from zipslack.places import WAYS, all_halves, facing, foot_ahead, gap_place, is_half
-from zipslack.states import require_state, row_gaps
+from zipslack.kinds import is_tuple_between
+from zipslack.places import WAYS, all_halves, is_half, is_way, towards
+from zipslack.states import require_gaps
 
 
 def clamped_feet(cloth, state):
     """All clamped feet in ascending order."""
-    require_state(cloth, state)
-    waits = find_waits(cloth, state)
-    return sorted([foot for foot in all_halves(cloth) if foot_cycle(cloth, state, waits, foot) is not None])
+    return find_clamped(cloth, state, require_gaps(cloth, state))
 
 
 def blocking_cycle(cloth, state, foot):
     """A blocking cycle with a mover of the foot."""
-    require_state(cloth, state)
-    cycle = foot_cycle(cloth, state, find_waits(cloth, state), foot) if is_half(cloth, foot) else None
+    gaps = require_gaps(cloth, state)
+    cycle = None
+    if is_tuple_between(foot, 2, 2) and is_half(cloth, foot[0], foot[1]):
+        cycle = foot_cycle(cloth, state, knotted(find_waits(cloth, state, gaps)), foot)
     if cycle is None:
         raise NotClamped(foot)
     return cycle
@@ -24,58 +24,97 @@ def blocking_cycle(cloth, state, foot):
 
 def is_blocking_cycle(cloth, state, value):
     """Whether any value is a blocking cycle of the state."""
-    require_state(cloth, state)
+    gaps = require_gaps(cloth, state)
     if not isinstance(value, list) or len(value) == 0:
         return False
-    waits = find_waits(cloth, state)
-    if not all([is_mover(waits, part) for part in value]) or len(set(value)) < len(value):
+    # What is no mover must not reach the set or the comparison: True would be found as 1.
+    if not all([is_mover(cloth, state, part) for part in value]) or len(set(value)) < len(value):
         return False
-    return all([ahead in waits[mover] for mover, ahead in zip(value, value[1:] + value[:1])])
+    following = value[1:] + value[:1]
+    return all([ahead in movers_ahead(cloth, state, gaps, mover) for mover, ahead in zip(value, following)])
 
 
-def is_mover(waits, value):
-    # A value that is no tuple of integers must not reach the dict: True would be found as 1.
-    return (is_integer_tuple(value, 2) or is_integer_tuple(value, 3)) and value in waits
+def find_clamped(cloth, state, gaps):
+    waits = knotted(find_waits(cloth, state, gaps))
+    if not waits:
+        return []
+    return [foot for foot in all_halves(cloth) if foot_cycle(cloth, state, waits, foot) is not None]
 
 
-def mover_of(cloth, state, foot, way):
+def is_tight(cloth, state, number):
+    return 0 < state[number][2] == cloth.minimums[number]
+
+
+def is_mover(cloth, state, value):
+    """Whether any value is a mover of the state."""
+    if is_tuple_between(value, 2, 2):
+        return is_half(cloth, value[0], 0) and is_way(value[1]) and is_tight(cloth, state, value[0])
+    if is_tuple_between(value, 3, 3):
+        return is_half(cloth, value[0], value[1]) and is_way(value[2]) and state[value[0]][2] == 0
+    return False
+
+
+def mover_feet(cloth, mover):
+    """The feet that a mover moves, each as a tuple of its zip, its side and its way along the row."""
+    if len(mover) == 3:
+        return [mover]
+    number, way = mover
+    return [(number, 0, way), (number, 1, way * cloth.facings[number])]
+
+
+def mover_of(cloth, state, number, side, way):
     """The mover that moves a foot this way along its row, or None if its zip has no movers."""
-    number, side = foot
-    count = state[number][2]
-    if count == 0:
+    if state[number][2] == 0:
         return (number, side, way)
-    # A joined zip has no fewer pairs than its minimum, so a zip that is not bound is never tight.
-    if count > cloth.zips()[number][1]:
+    if not is_tight(cloth, state, number):
         return None
-    return (number, way * facing(cloth, number)) if side == 1 else (number, way)
+    return (number, way * cloth.facings[number]) if side == 1 else (number, way)
 
 
-def find_waits(cloth, state):
-    """For each mover the list of movers that it waits for."""
+def movers_ahead(cloth, state, gaps, mover):
+    """The movers that a mover waits for."""
+    found = []
+    for number, side, way in mover_feet(cloth, mover):
+        ahead = towards(cloth.neighbours[number][side], way)
+        if ahead is not None and gaps[towards(cloth.gaps_by_foot[number][side], way)] == 0:
+            other = mover_of(cloth, state, ahead[0], ahead[1], way)
+            if other is not None:
+                found.append(other)
+    return found
+
+
+def find_waits(cloth, state, gaps):
+    """For each mover that waits, the list of movers that it waits for."""
     waits = {}
-    for foot in all_halves(cloth):
-        for way in WAYS:
-            mover = mover_of(cloth, state, foot, way)
-            if mover is not None:
-                waits[mover] = waits.get(mover, []) + movers_ahead(cloth, state, foot, way)
+    for number, (low0, low1, count) in enumerate(state):
+        movers = []
+        if count == 0:
+            movers = [(number, side, way) for side in (0, 1) for way in WAYS]
+        elif is_tight(cloth, state, number):
+            movers = [(number, way) for way in WAYS]
+        for mover in movers:
+            found = movers_ahead(cloth, state, gaps, mover)
+            if found:
+                waits[mover] = found
     return waits
 
 
-def movers_ahead(cloth, state, foot, way):
-    """The mover that keeps a foot from moving this way, as a list of one or of none."""
-    index, at = gap_place(cloth, foot, way)
-    ahead = foot_ahead(cloth, foot, way)
-    if ahead is None or row_gaps(cloth.rows()[index], state)[at] > 0:
-        return []
-    mover = mover_of(cloth, state, ahead, way)
-    return [] if mover is None else [mover]
+def knotted(waits):
+    """What is left when movers are left out that wait for none of the others that are left."""
+    kept = {}
+    for mover, found in waits.items():
+        left = [ahead for ahead in found if ahead in waits]
+        if left:
+            kept[mover] = left
+    return kept if len(kept) == len(waits) else knotted(kept)
 
 
 def foot_cycle(cloth, state, waits, foot):
     """A blocking cycle with a mover of the foot, or None if it is not clamped."""
+    number, side = foot
     for way in WAYS:
-        mover = mover_of(cloth, state, foot, way)
-        cycle = None if mover is None else cycle_through(waits, mover)
+        mover = mover_of(cloth, state, number, side, way)
+        cycle = cycle_through(waits, mover) if mover in waits else None
         if cycle is not None:
             return cycle
     return None

@@ -1,7 +1,8 @@
 """Cloths: rows of teeth, and the zips that join them."""
 
 from zipslack.errors import InvalidCloth, UnknownZip
-from zipslack.kinds import is_integer_between, is_integer_tuple, is_tuple_between
+from zipslack.kinds import is_integer, is_integer_between, is_integer_tuple, is_tuple_between
+from zipslack.layouts import by_number, gaps_of_feet, gaps_of_sliders, neighbours_of_feet, turn_lengths
 
 SORTS = ("line", "ring")
 DIRECTIONS = ("parallel", "reversed")
@@ -83,6 +84,13 @@ class Cloth:
         self.row_tuples = rows
         self.zip_tuples = zips
         self.row_by_foot = {foot: index for index, row in enumerate(rows) for foot in row[2]}
+        # The other modules look these up at every call, so they are found once.
+        self.minimums = tuple([minimum for direction, minimum in zips])
+        self.facings = tuple([-1 if direction == "reversed" else 1 for direction, minimum in zips])
+        self.turns = turn_lengths(rows)
+        self.neighbours = by_number(neighbours_of_feet(rows), len(zips))
+        self.gaps_by_foot = by_number(gaps_of_feet(rows), len(zips))
+        self.gaps_by_slider = gaps_of_sliders(zips, self.gaps_by_foot)
 
     def __eq__(self, other):
         return (isinstance(other, Cloth) and self.row_tuples == other.row_tuples
@@ -105,8 +113,7 @@ class Cloth:
 
     def row_of(self, number, side):
         """The index of the row on which this foot is placed."""
-        foot = (number, side)
         # A value that is no integer must not reach the dict: True would be found as 1.
-        if not is_integer_tuple(foot, 2) or foot not in self.row_by_foot:
+        if not is_integer(number) or not is_integer(side) or (number, side) not in self.row_by_foot:
             raise UnknownZip(number)
-        return self.row_by_foot[foot]
+        return self.row_by_foot[(number, side)]

@@ -2,8 +2,8 @@
 
 from zipslack.errors import UnknownZip
 from zipslack.kinds import is_integer_between
-from zipslack.places import DOWN, UP, WAYS, facing
-from zipslack.states import require_state, row_gaps
+from zipslack.places import DOWN, UP, WAYS
+from zipslack.states import require_state
 
 
 def holes(cloth, state):
@@ -89,7 +89,7 @@ def run_links(cloth, placement):
     beside = runs_beside(cloth, placement)
     links = {}
     for (number, side), way in beside:
-        other_way = way * facing(cloth, number)
+        other_way = way * cloth.facings[number]
         # The run above a foot begins there: it has its low end at the foot.
         here = (beside[((number, side), way)], -way)
         links[here] = (beside[((number, 1 - side), other_way)], -other_way)
@@ -120,13 +120,12 @@ def joined_feet(row, placement):
 
 
 def row_runs(index, row, placement):
-    """The runs of a row in the order of its gaps, as if it had only its joined feet."""
+    """The runs of a row, each from a start to an end, as if the row had only its joined feet."""
     sort, teeth, feet = row
     joined = joined_feet(row, placement)
-    starts = [placement[number][side] + placement[number][2] for number, side in joined]
+    lows = [placement[number][side] for number, side in joined]
+    highs = [placement[number][side] + placement[number][2] for number, side in joined]
     if sort == "ring" and joined:
-        starts = [start % teeth for start in starts]
-    else:
-        starts = [0] + starts
-    sizes = row_gaps((sort, teeth, joined), placement)
-    return [(index, start, size) for start, size in zip(starts, sizes)]
+        spans = list(zip(highs, lows[1:] + [lows[0] + teeth]))
+        return [(index, start % teeth, end - start) for start, end in spans]
+    return [(index, start, end - start) for start, end in zip([0] + highs, lows + [teeth])]

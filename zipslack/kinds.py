@@ -3,7 +3,7 @@
 
 def is_integer(value):
     # Python counts True and False among the integers; this package does not.
-    return isinstance(value, int) and not isinstance(value, bool)
+    return isinstance(value, int) and value is not True and value is not False
 
 
 def is_integer_between(value, low, high):

@@ -185,7 +185,8 @@ class UnreachableTest(CheckerCase):
     def test_wrong_numbers(self):
         for part in ((("offset", 0), True, 3), (("offset", 0), 1, True), (("offset", False), 1, 3),
                      (("offset", 0), "1", 3), (("offset", 0), 1), (("offset", 0), 1, 3, 0), [("offset", 0), 1, 3],
-                     (["offset", 0], 1, 3), None, (("offset", 0), None, 3), (("offset", 0), 1, (3,)), ("offset", 0, 1, 3), (("offset",), 1, 3)):
+                     (["offset", 0], 1, 3), None, (("offset", 0), None, 3), (("offset", 0), 1, (3,)),
+                     ("offset", 0, 1, 3), (("offset",), 1, 3)):
             self.assert_checks(False, B, P, R, ("unreachable", [part], []))
 
     def test_names(self):

@@ -158,3 +158,31 @@ def large_cases(seed, count, states=2):
         if None not in drawn:
             found += 1
             yield (cloth, *drawn)
+
+
+def crowded_case(source, sizes=(0, 1, 1, 2), bound=False):
+    """A cloth and a state of it with gaps of these sizes. If zips are to be bound, most of them are tight."""
+    counts = [source.choice((0, 0, 1, 2 if bound else 1)) for number in range(source.randint(2, 6))]
+    feet = [(number, side) for number in range(len(counts)) for side in (0, 1)]
+    source.shuffle(feet)
+    placed = [[] for row in range(source.randint(1, 4))]
+    for foot in feet:
+        source.choice(placed).append(foot)
+    rows, lows = [], {}
+    for index, on_row in enumerate(placed):
+        sort = source.choice(SORTS) if index < 2 else "line"
+        gaps = [source.choice(sizes) for gap in range(len(on_row) + (sort == "line"))] or [0]
+        teeth = sum(gaps) + sum(counts[number] for number, side in on_row)
+        if teeth == 0:
+            teeth = gaps[-1] = 1
+        at = 0 if sort == "line" else source.randrange(teeth)
+        for foot, gap in zip(on_row, gaps):
+            at += gap if sort == "line" else 0
+            lows[foot] = at
+            at += counts[foot[0]] + (gap if sort == "ring" else 0)
+        rows.append((sort, teeth, tuple(on_row)))
+    if max(teeth for sort, teeth, on_row in rows) > 24:
+        return crowded_case(source, sizes, bound)
+    minima = [source.choice((0, count, count)) if bound else 0 for count in counts]
+    cloth = Cloth(tuple(rows), tuple((source.choice(DIRECTIONS), minimum) for minimum in minima))
+    return cloth, tuple((lows[(number, 0)], lows[(number, 1)], count) for number, count in enumerate(counts))

@@ -1,6 +1,7 @@
 import itertools
 import unittest
 
+from tests.directly import is_on_a_cycle
 from tests.samples import A, B, C, D, ODD_VALUES, P, S, T, U
 from tests.worlds import DIRECTIONS, SORTS, one_row, random_cloth, states_of, two_rows
 from zipslack import clamps
@@ -78,16 +79,6 @@ def is_waiting(cloth, state, mover, other):
 def waits_of(cloth, state):
     movers = movers_of(cloth, state)
     return {mover: [other for other in movers if is_waiting(cloth, state, mover, other)] for mover in movers}
-
-
-def is_on_a_cycle(waits, mover):
-    reached, waiting = set(), list(waits[mover])
-    while waiting:
-        other = waiting.pop()
-        if other not in reached:
-            reached.add(other)
-            waiting.extend(waits[other])
-    return mover in reached
 
 
 def sweep():
